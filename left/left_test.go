@@ -729,3 +729,35 @@ func TestLongRow(t *testing.T) {
 	wantWay(t, l, 0, n-1, api.Way{W: n - 1, Mid: n - 2, Arc: api.None}, true)
 	wantCost(t, l, 0, -1+n-2)
 }
+
+// So many places that a way of making room for all of them at each search would
+// not end soon.
+func TestNearAmongMany(t *testing.T) {
+	const n = 1 << 19
+	m := api.Map{N: n}
+	for v := 1; v < n; v++ {
+		m.Arcs = append(m.Arcs, api.Arc{From: v - 1, To: v, W: 1}, api.Arc{From: v, To: v - 1, W: 1})
+	}
+	l := left.New(graphOf(t, m))
+	for v := 3; v < n-3; v += 9 {
+		wantNear(t, l, v-2, v+3, -1, 5, true)
+		wantNear(t, l, v-2, v+3, -1, 4, false)
+		wantNear(t, l, v-2, v+3, v, 9, false)
+	}
+	wantNear(t, l, n-1, 0, -1, n-1, true)
+	wantNear(t, l, n-1, 0, -1, n-2, false)
+}
+
+// Many places are reached at once, from a place that all ways leave.
+func TestNearOfAWideSearch(t *testing.T) {
+	const n = 3000
+	m := api.Map{N: n + 2}
+	for v := 1; v <= n; v++ {
+		m.Arcs = append(m.Arcs, api.Arc{From: 0, To: v, W: n - v}, api.Arc{From: v, To: n + 1, W: 3 * v})
+	}
+	l := left.New(graphOf(t, m))
+	wantNear(t, l, 0, n+1, -1, n+2, true) // by 1: n - 1 and 3
+	wantNear(t, l, 0, n+1, -1, n+1, false)
+	wantNear(t, l, 0, n+1, 1, n+4, true) // by 2: n - 2 and 6
+	wantNear(t, l, 0, n+1, 1, n+3, false)
+}
